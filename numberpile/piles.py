@@ -1,7 +1,7 @@
 """Piles: signs laid on a whole number by their counts, and taken off it."""
 
-from numberpile.errors import NoPile, NoSign
-from numberpile.shares import check_counts, first_of, sign_of, whole
+from numberpile.errors import NoPile
+from numberpile.shares import check_counts, count_of, first_of, sign_of, whole
 
 
 def check_pile(pile):
@@ -15,11 +15,8 @@ def check_pile(pile):
 def lay(pile, counts, sign):
     total = whole(counts)
     check_pile(pile)
-    first = first_of(counts, sign)
-    count = counts[sign]
-    if count == 0:
-        raise NoSign("a sign whose count is 0 has no slot")
-    return pile // count * total + first + pile % count
+    count = count_of(counts, sign)
+    return pile // count * total + first_of(counts, sign) + pile % count
 
 
 def take(pile, counts):

@@ -21,6 +21,14 @@ def check_sign(many, sign):
         raise NoSign("there is no such sign")
 
 
+# The count by which a sign is laid; first_of asks check_sign alone, since it tells of a count of 0 too.
+def count_of(counts, sign):
+    check_sign(len(counts), sign)
+    if counts[sign] == 0:
+        raise NoSign("a sign whose count is 0 has no slot")
+    return counts[sign]
+
+
 def whole(counts):
     check_counts(counts)
     return sum(counts)

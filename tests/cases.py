@@ -57,6 +57,19 @@ LARGE_PILES = [
 
 LOW_PILES = [-1, -2, -999, -(10 ** 899)]
 
+HUGE = 10 ** 899
+
+
+def there(counts):
+    """The signs that may be laid."""
+    return [sign for sign, count in enumerate(counts) if count > 0]
+
+
+def not_there(counts):
+    """Signs that are to be refused where one is laid."""
+    beyond = [-HUGE, -len(counts), -1, len(counts), len(counts) + 1, HUGE]
+    return beyond + [sign for sign, count in enumerate(counts) if count == 0]
+
 
 def slot_signs(counts):
     """The sign of each slot, counted out one by one."""

@@ -5,7 +5,7 @@ import inspect
 import pathlib
 import unittest
 
-from numberpile import models, piles, shares
+from numberpile import hidden, leaves, models, piles, shares, slots, streams
 
 PACKAGE = pathlib.Path(__file__).resolve().parent.parent / "numberpile"
 
@@ -22,6 +22,23 @@ ARGUMENTS = [
     (models.Follower, "(many, step=1)"),
     (models.press, "(pile, model, row)"),
     (models.read, "(pile, model, many)"),
+    (streams.Stream, "(counts, base, grain=4)"),
+    (hidden.lay_hidden, "(pile, prior, given, back, sign)"),
+    (hidden.take_hidden, "(pile, prior, given, back)"),
+    (slots.Slots, "(counts)"),
+    (leaves.packed, "(text)"),
+    (leaves.unpacked, "(leaf)"),
+]
+
+METHODS = [
+    (streams.Stream.lay_sign, "(self, sign)"),
+    (streams.Stream.take_sign, "(self)"),
+    (streams.Stream.told, "(self)"),
+    (slots.Slots.dealt, "(self)"),
+    (slots.Slots.raised, "(self, sign, number)"),
+    (slots.Slots.lowered, "(self, number)"),
+    (slots.Slots.laid, "(self, number, row)"),
+    (slots.Slots.taken, "(self, number, bits, many)"),
 ]
 
 # The names by which Python reaches files, the user, or code that is not written out.
@@ -34,7 +51,12 @@ class TestArguments(unittest.TestCase):
             with self.subTest(name=one.__name__):
                 self.assertEqual(str(inspect.signature(one)), arguments)
 
-    def test_methods(self):
+    def test_methods_of_streams_and_slots(self):
+        for method, arguments in METHODS:
+            with self.subTest(name=method.__qualname__):
+                self.assertEqual(str(inspect.signature(method)), arguments)
+
+    def test_methods_of_models(self):
         for kind in [models.Plain, models.Learner, models.Follower]:
             with self.subTest(kind=kind):
                 self.assertEqual(str(inspect.signature(kind.counts)), "(self)")

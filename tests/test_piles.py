@@ -4,18 +4,8 @@ import unittest
 
 from numberpile.errors import NoPile, NoShares, NoSign
 from numberpile.piles import lay, lay_row, take, take_row
-from tests.cases import GOOD_COUNTS, LARGE_PILES, LOW_PILES, WRONG_COUNTS, row_of, slot_signs
-
-HUGE = 10 ** 899
-
-
-def there(counts):
-    return [sign for sign, count in enumerate(counts) if count > 0]
-
-
-def not_there(counts):
-    beyond = [-HUGE, -len(counts), -1, len(counts), len(counts) + 1, HUGE]
-    return beyond + [sign for sign, count in enumerate(counts) if count == 0]
+from tests.cases import GOOD_COUNTS, HUGE, LARGE_PILES, LOW_PILES, WRONG_COUNTS
+from tests.cases import not_there, row_of, slot_signs, there
 
 
 class TestLay(unittest.TestCase):
